@@ -1,0 +1,1 @@
+"""Hourcards: a day led by whoever knew everything, played again from cards."""
