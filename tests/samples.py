@@ -2,6 +2,8 @@
 
 from hourcards.days import Day
 from hourcards.errors import BadWeb, NoRoad
+from hourcards.halls import Hall
+from hourcards.sized import SizedDay, SizedHall
 from hourcards.webs import Web
 
 # Roads in a row: 0 - 1 - 2 - 3.
@@ -16,6 +18,12 @@ LARGE = Web(12, tuple([(k, (k + 1) % 12) for k in range(12)] + [((k + 1) % 12, k
 
 DAY = Day(LINE, (((0, 1, 2), 1), ((0,), 2)), ((1, 2, 3), (2,)))
 EMPTY = Day(LINE, (), ())
+# Four roads in a row, as the examples of the document have it.
+FOUR = Web(5, ((0, 1), (1, 2), (2, 3), (3, 4)), (1,) * 4, (1,) * 4)
+# A ring of three roads.
+RING = Web(3, ((0, 1), (1, 2), (2, 0)), (1,) * 3, (1,) * 3)
+# Sized letters on LINE: the first one takes two ticks at each road.
+SIZED = SizedDay(LINE, (((0, 1), 1, 2), ((0,), 2, 1)), ((1, 3), (3,)))
 
 
 def nested(kind, deep):
@@ -32,6 +40,7 @@ ODD = [
     memoryview(b"\x00"), range(0), range(2), slice(0, 2), len, int, object(), iter([]), [None], (None,), [[]],
     ((),), (True,), [True], ("0",), (b"0",), {None: None}, {"0": 1}, {(True, 0): 1}, {(0, True): 1}, {True: 1},
     nested(list, 40), nested(tuple, 40), nested(dict, 40), LINE, DAY, NoRoad(), BadWeb("houses"), Web, Day, NoRoad,
+    SIZED, Hall(LINE, (0, 1, 2), "hours"), SizedHall(LINE, (0, 1)), Hall, (SIZED,), {0: None}, b"hours", ["hours"],
     (LINE,), [DAY], (0, LINE), (NoRoad(),), (None,) * 9999, [True] * 9999,
 ]
 
