@@ -111,10 +111,10 @@ class Scene:
         self.many = spare + 1
         self.until = ticks_for(self.many, self.pace)
         self.seen = self.until + ahead
-        self.clear = self.seen + ticks_for(self.many, self.end_pace)
+        self.cleared = self.seen + ticks_for(self.many, self.end_pace)
         # If nobody may be late, nobody who is passed behind the fillers comes to the last road ahead of this tick.
         self.block = self.seen + self.run + 1 if late == 1 else self.until + max(self.run, ahead) + 1
-        self.home = self.clear + 1 + self.run + web.times[self.last]
+        self.home = self.cleared + 1 + self.run + web.times[self.last]
         if self.running[-1] in place:
             # None of them comes to this road once more ahead of another's first time.
             self.home += self.until - 1
@@ -128,7 +128,7 @@ class Scene:
     def second_day(self):
         """The list of the triples (way, come, hours) of the day on which the enders are ahead."""
         enders = [1 + number // self.pace for number in range(self.many)]
-        return self.common(self.clear + 1, enders) + self.blocks(self.first, self.seen + 1, self.clear)
+        return self.common(self.cleared + 1, enders) + self.blocks(self.first, self.seen + 1, self.cleared)
 
     def common(self, begin, enders):
         """The list of the triples of the letters of both days; runners pass from this tick on, enders at these."""
@@ -148,7 +148,7 @@ class Scene:
             hours.append(hours[-1] + self.web.times[road])
         if self.first == self.last:
             # The enders need the rooms of the road that both pass.
-            hours[-1] = max(hours[-1], self.clear + 1)
+            hours[-1] = max(hours[-1], self.cleared + 1)
         return tuple(hours) + (self.home + number // self.home_pace,)
 
     def blocks(self, road, begin, end):
