@@ -87,11 +87,12 @@ def ticks_for(many, pace):
 class Scene:
     """Where and when the letters of a trap go.
 
-    Runners and enders wait at the first road of the place from tick 1 on. Runners go through the place and one road
-    further, enders do not come to its last road. The first road has rooms for just as many as there are of the one
-    or the other, then fillers leave it none until more is seen than can be at until. On the first day the last road
-    is blocked then, so the runners had to be ahead; on the second day the first road stays blocked for as long as the
-    enders might pass it, so they had to be ahead. Fillers and blocks are letters with one road, home as they come.
+    Runners and enders come to the first road of the place, as many of the one as of the other at each tick. Runners go
+    through the place and one road further, enders do not come to its last road. Up to until the first road has rooms
+    for just the one or the other, then fillers leave it none until more is seen than can be at until. On the first
+    day the last road is blocked then, so the runners had to be ahead; on the second day the first road stays blocked
+    for as long as the enders might pass it, so they had to be ahead. Fillers and blocks are letters with one road,
+    home as they come.
     """
 
     def __init__(self, web, place, ahead, late):
@@ -127,23 +128,27 @@ class Scene:
 
     def second_day(self):
         """The list of the triples (way, come, hours) of the day on which the enders are ahead."""
-        enders = [1 + number // self.pace for number in range(self.many)]
+        enders = [self.come(number) for number in range(self.many)]
         return self.common(self.cleared + 1, enders) + self.blocks(self.first, self.seen + 1, self.cleared)
 
     def common(self, begin, enders):
         """The list of the triples of the letters of both days; runners pass from this tick on, enders at these."""
-        found = [(self.running, 1, self.runner(number, begin)) for number in range(self.many)]
+        found = [(self.running, self.come(number), self.runner(number, begin)) for number in range(self.many)]
         for number, hour in enumerate(enders):
             home = self.seen + 1 + number // self.end_pace + self.web.times[self.first]
-            found.append((self.ending, 1, (hour, home)))
+            found.append((self.ending, self.come(number), (hour, home)))
         for tick in range(1, self.until + 1):
             others = min(self.pace, self.many - (tick - 1) * self.pace)
             found += single(self.first, tick, self.web.rooms[self.first] - others)
         return found + self.blocks(self.first, self.until + 1, self.seen)
 
+    def come(self, number):
+        """The tick at which a runner and an ender come."""
+        return 1 + number // self.pace
+
     def runner(self, number, begin):
         """The hours of a runner, the first of whom is passed at this tick."""
-        hours = [begin + number // self.pace]
+        hours = [begin - 1 + self.come(number)]
         for road in self.running[:-2]:
             hours.append(hours[-1] + self.web.times[road])
         if self.first == self.last:

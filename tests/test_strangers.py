@@ -339,7 +339,8 @@ class Beaten(unittest.TestCase):
             def choose(road, tick, waiting, seen, past):
                 for letter, card in seen:
                     self.assertLessEqual(card[1], tick + ahead)
-                self.assertEqual([letter for letter, _ in seen], list(range(len(seen))))
+                self.assertEqual(list(seen), sorted(seen, key=lambda pair: pair[0]))
+                self.assertLessEqual(set(waiting), {letter for letter, _ in seen})
                 return waiting[:1]
 
             beaten(FOUR, (), "hours", ROW, ahead, 2, choose)
