@@ -52,6 +52,17 @@ def first_ticks(web, letter, row):
     return [come] + [hour + web.times[road] for road, hour in zip(way, row[:-1])]
 
 
+def first_tick(web, letter, row):
+    """The tick from which on a letter with this row of hours so far may be passed by its next road."""
+    way, come = letter
+    return row[-1] + web.times[way[len(row) - 1]] if row else come
+
+
+def hours_so_far(letters, rows):
+    """The hours of letters, or of what else begins with a way, that have these rows so far, with None behind them."""
+    return tuple([row + (None,) * (len(letter[0]) - len(row)) for letter, row in zip(letters, rows)])
+
+
 def some_early(web, letters, hours):
     """Whether some hour is earlier than may be."""
     for letter, row in zip(letters, hours):
@@ -134,10 +145,9 @@ def led_hours(web, letters, order, holds):
 
 def next_wait(web, letters, holds, number, row):
     """The pair of the tick from which on a letter with this row of hours so far may be passed and the road there."""
-    way, come = letters[number]
     place = len(row)
-    first = come if place == 0 else row[-1] + web.times[way[place - 1]]
-    return max(first, holds.get((number, place), 1)), way[place]
+    first = first_tick(web, letters[number], row)
+    return max(first, holds.get((number, place), 1)), letters[number][0][place]
 
 
 def passed_at(web, order, waits, tick):

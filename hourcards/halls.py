@@ -1,6 +1,7 @@
 """Halls: the rule that plays each day again from its cards, if the lot is enough (5)."""
 
 from hourcards.cards import are_cards, is_card
+from hourcards.days import first_tick, hours_so_far
 from hourcards.errors import NoCard, NoCards, NotEnough, NothingDone
 from hourcards.kinds import bad_places, kinds
 
@@ -78,8 +79,7 @@ class Hall:
 
     def so_far(self):
         """The hours of all letters that have come, with None where they were not passed so far."""
-        board = self.board
-        return tuple([row + (None,) * (len(card[0]) - len(row)) for card, row in zip(board.bearers, board.rows)])
+        return hours_so_far(self.board.bearers, self.board.rows)
 
     def left(self):
         """How many letters are not home."""
@@ -128,12 +128,10 @@ def settle(hall, letter):
     board = hall.board
     card = board.bearers[letter]
     row = board.rows[letter]
-    place = len(row)
-    if place == len(card[0]):
+    if len(row) == len(card[0]):
         del board.out[letter]
     else:
-        first = card[1] if place == 0 else row[-1] + hall.web.times[card[0][place - 1]]
-        board.out[letter] = (card[0][place], first)
+        board.out[letter] = (card[0][len(row)], first_tick(hall.web, card[:2], row))
 
 
 def ranks_of(hall, card):

@@ -4,7 +4,7 @@ from heapq import heappop, heappush
 from itertools import combinations
 
 from hourcards.checks import are_integers, is_from, is_integer, is_tuple
-from hourcards.days import are_letters, some_early, some_full
+from hourcards.days import are_letters, first_tick, some_early, some_full
 from hourcards.errors import NoHomes, NoHours, NoLetters, NoNumber, NoTick, TooMany
 
 MOST_SEARCHED = 12
@@ -189,14 +189,8 @@ def savable(web, letters, homes, hours, tick, slack):
         if len(row) == len(way) and row[-1] > limit:
             return False
     roads = Roads(web, [way for way, _ in letters], limits)
-    state = [place_of(web, letter, row) for letter, row in zip(letters, rows)]
+    state = [(len(row), first_tick(web, letter, row)) for letter, row in zip(letters, rows)]
     return can_be_home(roads, roads.node(tick, state))
-
-
-def place_of(web, letter, row):
-    """The pair of the place of a letter with this row of hours so far, and the first tick at which it may be passed."""
-    way, come = letter
-    return len(row), row[-1] + web.times[way[len(row) - 1]] if row else come
 
 
 def known_rows(hours):

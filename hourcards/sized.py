@@ -2,7 +2,7 @@
 
 from hourcards.cards import come_by, is_alone, is_told, told_of
 from hourcards.checks import are_integers, is_between, is_from, is_integer, is_tuple
-from hourcards.days import LAST_TICK, MOST_LETTERS
+from hourcards.days import LAST_TICK, MOST_LETTERS, hours_so_far
 from hourcards.errors import BadDay, NoCard, NoLot, NoRoad, NotEnough, NotPlain, TooMany
 from hourcards.saving import MOST_SEARCHED, are_fit, can_both_be_home
 from hourcards.webs import is_lot, is_road, is_way, next_roads
@@ -178,7 +178,7 @@ class SizedHall:
 
     def so_far(self):
         """The hours of all letters that have come, with None where they were not passed so far."""
-        return tuple([row + (None,) * (len(card[0]) - len(row)) for card, row in zip(self.bearers, self.rows)])
+        return hours_so_far(self.bearers, self.rows)
 
     def left(self):
         """How many letters there are whose last passing has not begun."""

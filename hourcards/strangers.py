@@ -2,6 +2,7 @@
 
 from hourcards.cards import SORTS, are_cards, cards_of, come_by
 from hourcards.checks import is_from, is_integer, is_tuple
+from hourcards.days import first_tick, hours_so_far
 from hourcards.errors import NoCards, NoChoice, NoNumber
 from hourcards.traps import trap
 from hourcards.webs import is_way
@@ -25,10 +26,8 @@ class Lead:
         """The list of the triples (road, letter, first tick at which it may be passed there) of those not home."""
         found = []
         for letter, (card, row) in enumerate(zip(self.bearers, self.rows)):
-            place = len(row)
-            if place < len(card[0]):
-                first = card[1] if place == 0 else row[-1] + self.web.times[card[0][place - 1]]
-                found.append((card[0][place], letter, first))
+            if len(row) < len(card[0]):
+                found.append((card[0][len(row)], letter, first_tick(self.web, card[:2], row)))
         return found
 
     def lead_to(self, last):
@@ -62,7 +61,7 @@ class Lead:
 
     def so_far(self):
         """The hours of all letters, with None where they were not passed."""
-        return tuple([row + (None,) * (len(card[0]) - len(row)) for card, row in zip(self.bearers, self.rows)])
+        return hours_so_far(self.bearers, self.rows)
 
     def is_home(self, letter):
         """Whether the letter is home."""
