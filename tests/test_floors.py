@@ -111,15 +111,12 @@ class Floors(unittest.TestCase):
                     self.check(web, sort, prices)
 
     def test_many_splits(self):
-        # Four times a fork of two, each of which comes to be a path of three bad places with a dear road in its middle.
-        pairs, prices = [], []
-        for house in range(0, 12, 3):
-            pairs += [(house, house + 1), (house + 1, house), (house + 1, house + 2), (house + 2, house + 1)]
-            prices += [1, 2, 1, 2]
-        web = plain_web(12, pairs)
-        for sort in SORTS:
-            self.check(web, sort, tuple(prices))
-            self.check(web, sort, tuple(prices[::-1]))
+        # The roads 0 to 2 and 4 to 6 have to be split each for themselves: places apart are worth just 1 there, and not 2.
+        web = plain_web(12, [(k, k + 1) for k in range(11)])
+        prices = (1, 2, 1, 0, 1, 2, 1, 0, 0, 0, 0)
+        self.assertEqual(cheapest_lot(web, "turns", prices)[0], 4)
+        self.check(web, "turns", prices)
+        self.assertGreaterEqual(str(floor(web, "turns", prices)).count("split"), 3)
 
     def test_equal_calls_give_equal_answers(self):
         self.assertEqual(floor(RING, "turns", (1, 2, 3)), floor(RING, "turns", (1, 2, 3)))
