@@ -217,6 +217,9 @@ class Halls(unittest.TestCase):
             hall.come(((2,), 1, 1, (None,)))
         with self.assertRaises(NoCard):
             hall.come(((2,), 1, 2, (1,)))
+        # A home hour that is equal to what is told is none if it is a flag.
+        with self.assertRaises(NoCard):
+            hall.come(((2,), 1, True, (1,)))
         self.assertEqual(hall.tick(), [(2, 0)])
 
     def test_lists_are_new_and_halls_go_apart(self):
