@@ -67,7 +67,8 @@ class Search:
         weights = {need: least_price(self.prices, need) for need in left}
         # Six times the worth for each of one, two or three roads, that stays an integer.
         dear = sorted([(-6 * weights[need] // len(roads_in(need)), need) for need in left])
-        best = max([chosen_apart(weights, order) for order in ([need for _, need in dear], sorted(left))])
+        orders = [[need for _, need in dear], sorted(left)]
+        best = max([chosen_apart(weights, order) for order in orders])
         return price_of(self.prices, told) + best[0], tuple([left[need] for need in best[1]])
 
     def best_split(self, told, silent, left):

@@ -99,7 +99,7 @@ def told_state(state, road):
 
 
 def is_one(roads):
-    """Whether the mask is that of just one road."""
+    """Whether the mask is that of one road at most."""
     return roads & (roads - 1) == 0
 
 

@@ -2,11 +2,11 @@
 
 from hourcards.cards import come_by, is_alone
 from hourcards.checks import are_between, is_between, is_from, is_integer, is_tuple
-from hourcards.days import LAST_TICK, day_of_any_size, first_tick, hours_so_far
+from hourcards.days import LAST_TICK, first_tick, hours_so_far
 from hourcards.errors import NoCard, NoGap, NoNumber, NoPlan, NotEnough, TooMany
 from hourcards.saving import MOST_SEARCHED
 from hourcards.traps import MOST_AHEAD, is_day_on, is_kept, led_day
-from hourcards.webs import LONGEST_WAY, Web, is_way
+from hourcards.webs import LONGEST_TIME, LONGEST_WAY, Web, is_way
 
 
 def is_plan(thing):
@@ -148,12 +148,12 @@ def plan_trap(plan, length, place, ahead):
     pairs = tuple([(house, house + 1) for house in range(length)]) + ((place + 1, place + 2),)
     narrow = (place, place + 1, length)
     rooms = tuple([1 if road in narrow else 2 for road in range(length + 1)])
-    # A letter that passes the road of the gap is not at the next one up to three ticks later: so many fewer ticks are
-    # to be filled, and with 12 ticks ahead a day has just the 12 letters that can be searched.
-    times = tuple([3 if road == place else 1 for road in range(length + 1)])
+    # A letter that passes the road of the gap is at the next one as much later as may be: so many fewer ticks are to be
+    # filled, and with 12 ticks ahead a day has just the 12 letters that can be searched.
+    times = tuple([LONGEST_TIME if road == place else 1 for road in range(length + 1)])
     web = Web(length + 1, pairs, rooms, times)
     until = place + 1
-    later = max(until + 1, until + ahead - 2)
+    later = max(until, until + ahead - LONGEST_TIME) + 1
     ways = (tuple(range(length)), tuple([length if road == place + 1 else road for road in range(length)]))
     days = []
     # The one that is passed first is hindered by another letter at its second road, just when it would be there if
@@ -161,14 +161,16 @@ def plan_trap(plan, length, place, ahead):
     for first in (0, 1):
         passings = [(way, 1, hours_by(length, place, until if way == ways[first] else later, later)) for way in ways]
         passings += [((place,), tick, (tick,)) for tick in range(until + 1, later)]
-        passings.append(((ways[first][place + 1],), later + 3, (later + 3,)))
+        hindered = later + LONGEST_TIME
+        passings.append(((ways[first][place + 1],), hindered, (hindered,)))
         days.append(led_day(web, passings))
     return web, days[0], days[1], until
 
 
 def hours_by(length, place, hour, later):
     """The hours of a letter that passes the road of the gap at this hour, and is behind the gap as if it were later."""
-    return tuple(range(1, place + 1)) + (hour, hour + 3) + tuple(range(later + 4, later + 2 + length - place))
+    behind = later + LONGEST_TIME + 1
+    return tuple(range(1, place + 1)) + (hour, hour + LONGEST_TIME) + tuple(range(behind, behind + length - place - 2))
 
 
 def is_plan_trap(plan, ahead, thing):

@@ -146,6 +146,15 @@ class Form(unittest.TestCase):
             self.assertTrue(free, left)
             left = {module: others for module, others in left.items() if module not in free}
 
+    def test_what_is_imported_is_used(self):
+        for name in files():
+            tree = ast.parse(text_of(name))
+            used = {node.id for node in ast.walk(tree) if isinstance(node, ast.Name)}
+            for node in tree.body:
+                if isinstance(node, ast.ImportFrom):
+                    with self.subTest(name, line=node.lineno):
+                        self.assertEqual([alias.name for alias in node.names if alias.name not in used], [])
+
     def test_methods_and_attributes(self):
         own, attributes = set(), set()
         for name, node in self.each_node():
