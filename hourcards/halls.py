@@ -208,7 +208,8 @@ def played(web, lot, sort, cards):
     hall = Hall(web, lot, sort)
     if not are_cards(web, lot, sort, cards):
         raise NoCards()
-    order = [letter for _, letter in sorted([(card[1], letter) for letter, card in enumerate(cards)])]
+    coming = sorted([(card[1], letter) for letter, card in enumerate(cards)])
+    order = [letter for _, letter in coming]
     if not lead(hall, [cards[letter] for letter in order]):
         return None
     rows = sorted([(letter, row) for letter, row in zip(order, hall.so_far())])

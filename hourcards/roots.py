@@ -29,8 +29,8 @@ def root_hours(web, cards):
         raise NotRooted()
     if not isinstance(cards, tuple) or not all([is_root_card(web, end, card) for card in cards]):
         raise NoCards()
-    order = [letter for _, letter in sorted([(card[2], letter) for letter, card in enumerate(cards)])]
-    hours = led_hours(web, [card[:2] for card in cards], order, {})
+    ranked = sorted([(card[2], letter) for letter, card in enumerate(cards)])
+    hours = led_hours(web, [card[:2] for card in cards], [letter for _, letter in ranked], {})
     return tuple([tuple(row) for row in hours])
 
 
